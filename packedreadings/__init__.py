@@ -1,0 +1,1 @@
+"""An archive of readings, packed in bits."""

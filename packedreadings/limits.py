@@ -1,0 +1,13 @@
+"""The bounds and the refusals that several files share."""
+
+SERIES_COUNT = 4
+MOST_PLACES = 400
+MOST_CORRECTIONS = 60
+BLOCK_LENGTH = 16
+
+NOT_AS_TOLD = -1
+NO_SUCH_PLACE = -4
+FULL = -5
+TOO_FEW_CORRECTIONS = -6
+STANDS_ALREADY = -7
+NO_READING = -8

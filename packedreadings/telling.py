@@ -1,0 +1,14 @@
+"""How values and rows are answered."""
+
+from packedreadings.gaps import GAP
+
+
+def told_value(value):
+    """A reading or gap as two numbers."""
+    if value == GAP:
+        return [0, 0]
+    return [1, value]
+
+
+def told_row(numbers):
+    return [len(numbers)] + numbers
