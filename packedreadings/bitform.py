@@ -8,12 +8,26 @@ def folded(number):
     return -2 * number - 1
 
 
+def unfolded(number):
+    """The number that has this folded number."""
+    if number % 2 == 0:
+        return number // 2
+    return -(number + 1) // 2
+
+
 def width(number):
     return number.bit_length()
 
 
 def in_bits(number, count):
     return [(number >> (count - 1 - k)) & 1 for k in range(count)]
+
+
+def all_in_bits(numbers, count):
+    bits = []
+    for number in numbers:
+        bits.extend(in_bits(number, count))
+    return bits
 
 
 def self_ending(number):

@@ -1,6 +1,6 @@
 """A block of readings and gaps as bits, by the shortest of four codes."""
 
-from packedreadings.bitform import folded, folded_self_ending, in_bits, self_ending, width
+from packedreadings.bitform import all_in_bits, folded, folded_self_ending, in_bits, self_ending, width
 from packedreadings.gaps import GAP, readings_in
 
 
@@ -10,13 +10,6 @@ def steps_between(readings):
 
 def greatest_width(foldeds):
     return width(max(foldeds, default=0))
-
-
-def all_in_bits(numbers, count):
-    bits = []
-    for number in numbers:
-        bits.extend(in_bits(number, count))
-    return bits
 
 
 def plain_code(readings):

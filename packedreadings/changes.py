@@ -1,4 +1,4 @@
-"""The calls that change a series: clear, add and fix."""
+"""The calls that change one series: clear, add, fix and trim."""
 
 from packedreadings.limits import FULL, MOST_CORRECTIONS, MOST_PLACES, NO_SUCH_PLACE, STANDS_ALREADY
 
@@ -24,3 +24,10 @@ def fix_place(series, place, value):
         return [FULL]
     series.correct(place, value)
     return [0, series.correction_count()]
+
+
+def trim_series(series, start):
+    if start > series.place_count():
+        return [NO_SUCH_PLACE]
+    series.cut_from(start)
+    return [0]

@@ -31,10 +31,22 @@ class Series:
         self.corrections.append((place, value))
         self.standing[place] = value
 
+    def take_over(self, other):
+        """Become like another series; the lists are copied, so that later changes stay apart."""
+        self.added = list(other.added)
+        self.corrections = list(other.corrections)
+        self.standing = list(other.standing)
+
+    def cut_from(self, start):
+        self.added = self.added[:start]
+        self.corrections = [correction for correction in self.corrections if correction[0] < start]
+        self.standing = self.standing[:start]
+
+    def values_up_to(self, place, done):
+        """What was added at a place, then what each correction of it put there, of the first corrections, that many."""
+        return [self.added[place]] + [put[1] for put in self.corrections[:done] if put[0] == place]
+
     def value_as_of(self, place, done):
         """What stands at a place with only the first corrections done, that many."""
-        value = self.added[place]
-        for correction in self.corrections[:done]:
-            if correction[0] == place:
-                value = correction[1]
-        return value
+        values = self.values_up_to(place, done)
+        return values[len(values) - 1]

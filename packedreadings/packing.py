@@ -1,8 +1,9 @@
-"""The calls that pack a series, as it is now, in blocks: sizes and block."""
+"""The calls that pack what stands or is given: sizes, block, codes and gamma."""
 
-from packedreadings.bitform import as_bytes
-from packedreadings.blockcode import block_bits
-from packedreadings.limits import BLOCK_LENGTH, NO_SUCH_PLACE
+from packedreadings.bitform import as_bytes, self_ending
+from packedreadings.blockcode import block_bits, in_each_code, shortest_code
+from packedreadings.gaps import readings_in
+from packedreadings.limits import BLOCK_LENGTH, NO_READING, NO_SUCH_PLACE
 from packedreadings.telling import told_row
 
 
@@ -22,3 +23,15 @@ def bytes_of_block(series, number):
     if number >= len(blocks):
         return [NO_SUCH_PLACE]
     return [0] + told_row(as_bytes(block_bits(blocks[number])))
+
+
+def codes_of_row(row):
+    readings = readings_in(row)
+    if len(readings) == 0:
+        return [NO_READING]
+    coded = in_each_code(readings)
+    return [0, shortest_code(coded)] + [len(bits) for bits in coded]
+
+
+def bits_of_self_ending(number):
+    return [0] + told_row(self_ending(number))

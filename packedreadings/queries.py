@@ -1,8 +1,8 @@
-"""The calls that ask what stands in a series: get, was, sum, span, seek and coarse."""
+"""The calls that ask what stands or stood in series: get, was, sum, span, seek, coarse, history and state."""
 
 from packedreadings.gaps import GAP, readings_in
 from packedreadings.limits import NO_READING, NO_SUCH_PLACE, TOO_FEW_CORRECTIONS
-from packedreadings.telling import told_row, told_value
+from packedreadings.telling import told_row, told_value, told_values
 
 
 def get_place(series, place):
@@ -63,3 +63,17 @@ def coarse_pieces(series, length):
     for piece in range(series.place_count() // length):
         numbers.extend(told_piece(series.standing[piece * length:(piece + 1) * length]))
     return [0] + told_row(numbers)
+
+
+def history_of_place(series, place):
+    if not series.has_place(place):
+        return [NO_SUCH_PLACE]
+    return [0] + told_row(told_values(series.values_up_to(place, series.correction_count())))
+
+
+def state_of_all(all_series):
+    counts = [0]
+    for series in all_series:
+        counts.append(series.place_count())
+        counts.append(series.correction_count())
+    return counts

@@ -1,19 +1,28 @@
 """What each call takes: its numbers and rows in order, and their ranges."""
 
-from packedreadings.gaps import GAP
+from packedreadings.gaps import GAP, is_reading
 
 RANGES = {
     "series": (0, 3),
     "place": (0, 400),
-    "reading": (-1000000000, 1000000000),
     "correction count": (0, 100),
     "seek bound": (-2000000000, 2000000000),
     "piece length": (1, 96),
     "block number": (0, 30),
+    "byte": (0, 255),
+    "self-ending number": (1, 4294967296),
 }
 
 ROW_LENGTHS = {
     "values": (1, 64),
+    "block values": (1, 16),
+    "bytes": (0, 200),
+}
+
+ROW_MEMBERS = {
+    "values": "value",
+    "block values": "value",
+    "bytes": "byte",
 }
 
 SHAPES = {
@@ -28,6 +37,16 @@ SHAPES = {
     8: ("series", "piece length"),
     9: ("series",),
     10: ("series", "block number"),
+    11: ("bytes",),
+    12: ("series", "bytes"),
+    13: ("block values",),
+    14: ("self-ending number",),
+    15: ("series", "series"),
+    16: ("series", "series", "place"),
+    17: ("series", "series"),
+    18: ("series", "place"),
+    19: ("series", "place"),
+    20: (),
 }
 
 
@@ -44,24 +63,24 @@ def lies_within(number, bounds):
     return bounds[0] <= number and number <= bounds[1]
 
 
-def is_value(number):
-    return number == GAP or lies_within(number, RANGES["reading"])
+def number_fits(kind, number):
+    if kind == "value":
+        return number == GAP or is_reading(number)
+    return lies_within(number, RANGES[kind])
 
 
 def row_fits(kind, row):
     """Whether a row is as long as told, and each of its numbers in its range."""
     if not lies_within(len(row), ROW_LENGTHS[kind]):
         return False
-    return all([is_value(number) for number in row])
+    return all([number_fits(ROW_MEMBERS[kind], number) for number in row])
 
 
 def fits(kind, given):
     """Whether one number or row that was given is as told for its kind."""
     if is_row(kind):
         return row_fits(kind, given)
-    if kind == "value":
-        return is_value(given)
-    return lies_within(given, RANGES[kind])
+    return number_fits(kind, given)
 
 
 def all_fit(call_number, givens):

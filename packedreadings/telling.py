@@ -10,5 +10,12 @@ def told_value(value):
     return [1, value]
 
 
+def told_values(values):
+    numbers = []
+    for value in values:
+        numbers.extend(told_value(value))
+    return numbers
+
+
 def told_row(numbers):
     return [len(numbers)] + numbers

@@ -53,6 +53,46 @@ def block(series, b):
     return [10, series, b]
 
 
+def unpack(row):
+    return [11, len(row)] + list(row)
+
+
+def load(series, row):
+    return [12, series, len(row)] + list(row)
+
+
+def codes(values):
+    return [13, len(values)] + list(values)
+
+
+def gamma(n):
+    return [14, n]
+
+
+def copy(series, other):
+    return [15, series, other]
+
+
+def differ(series, other, i):
+    return [16, series, other, i]
+
+
+def fill(series, other):
+    return [17, series, other]
+
+
+def trim(series, n):
+    return [18, series, n]
+
+
+def history(series, place):
+    return [19, series, place]
+
+
+def state():
+    return [20]
+
+
 def parted(told):
     """The flat list of answers as one list for each call."""
     parts = []
@@ -71,7 +111,10 @@ def ask(calls):
     """One answer for each call, all asked in one list of a new archive."""
     if not 1 <= len(calls) <= 100:
         raise AssertionError("a list holds from 1 to 100 calls")
-    told = parted(answers([number for call in calls for number in call]))
+    numbers = [number for call in calls for number in call]
+    if len(numbers) > 16000:
+        raise AssertionError("a list has at most 16000 numbers")
+    told = parted(answers(numbers))
     if len(told) != len(calls):
         raise AssertionError(f"{len(told)} answers to {len(calls)} calls")
     return told
@@ -93,20 +136,21 @@ def bytes_of(text):
     return [int(bits[k:k + 8], 2) for k in range(0, len(bits), 8)]
 
 
+def told_values(values):
+    """A row of readings and gaps as it is answered."""
+    row = [number for value in values for number in ((0, 0) if value == GAP else (1, value))]
+    return [len(row)] + row
+
+
 def probes():
-    """Calls that show the whole state; the last ones change it to tell the counts."""
-    calls = []
+    """Calls that show what is kept; the last ones change it, to show what the next change finds."""
+    calls = [state()]
     for series in range(4):
-        calls.append(coarse(series, 1))
-        calls.append(sizes(series))
-        for n in range(4):
-            calls.append(was(series, 0, n))
-            calls.append(was(series, 2, n))
+        calls += [coarse(series, 1), sizes(series), history(series, 0), history(series, 2)]
+        calls += [was(series, 0, 1), was(series, 0, 2), was(series, 2, 1)]
     for series in range(4):
-        calls.append(fix(series, 0, 987654321))
-        calls.append(add(series, [123456789]))
-        calls.append(clear(series))
-    return calls
+        calls += [fix(series, 0, 987654321), add(series, [123456789])]
+    return calls + [state()]
 
 
 class Asking(unittest.TestCase):

@@ -83,6 +83,78 @@ def block_bytes(values):
     return [int(text[k:k + 8], 2) for k in range(0, len(text), 8)]
 
 
+class Wrong(Exception):
+    def __init__(self, number):
+        super().__init__(number)
+        self.number = number
+
+
+def unfold(number):
+    return (number >> 1) ^ -(number & 1)
+
+
+class Text:
+    """Bits as a text that is cut off from the left."""
+
+    def __init__(self, row):
+        self.rest = "".join(binary(byte, 8) for byte in row)
+
+    def number(self, count):
+        if count > len(self.rest):
+            raise Wrong(1)
+        cut, self.rest = self.rest[:count], self.rest[count:]
+        return int("0" + cut, 2)
+
+    def gamma(self):
+        zeros = len(self.rest) - len(self.rest.lstrip("0"))
+        if zeros > 40:
+            raise Wrong(2)
+        return self.number(2 * zeros + 1)
+
+    def first(self):
+        return unfold(self.gamma() - 1)
+
+
+def read_code(text, code, m):
+    if code == 0:
+        w = text.number(5)
+        return [unfold(text.number(w)) for k in range(m)]
+    if code == 3:
+        found = []
+        while len(found) < m:
+            v, count = text.first(), text.gamma()
+            if len(found) + count > m:
+                raise Wrong(2)
+            found += [v] * count
+        return found
+    found = [text.first()]
+    if code == 1:
+        w = text.number(6)
+        while len(found) < m:
+            found.append(found[-1] + unfold(text.number(w)))
+    while len(found) < m:
+        change = text.first()
+        found.append(found[0] + change if len(found) == 1 else 2 * found[-1] - found[-2] + change)
+    return found
+
+
+def read(row):
+    """The values of the block that a row of bytes is; or Wrong."""
+    text = Text(row)
+    count = text.number(4) + 1
+    marks = binary(text.number(count), count) if text.number(1) else "1" * count
+    m = marks.count("1")
+    readings = read_code(text, text.number(2), m) if m else []
+    if [v for v in readings if abs(v) > 10 ** 9]:
+        raise Wrong(2)
+    if len(text.rest) >= 8 or "1" in text.rest:
+        raise Wrong(3)
+    values = [GAP if mark == "0" else readings.pop(0) for mark in marks]
+    if block_bytes(values) != list(row):
+        raise Wrong(4)
+    return values
+
+
 def pair(value):
     return [0, 0] if value == GAP else [1, value]
 
@@ -93,6 +165,16 @@ def is_value(number):
 
 def is_place(number):
     return 0 <= number <= 400
+
+
+def is_row_of_bytes(count, row):
+    return count <= 200 and all(0 <= byte <= 255 for byte in row)
+
+
+# The calls that do not begin with a series.
+WITHOUT_SERIES = (11, 13, 14, 20)
+# The calls whose second number is a series too.
+WITH_ANOTHER = (15, 16, 17)
 
 
 class Model:
@@ -112,10 +194,11 @@ class Model:
         return self.as_of(s, len(self.fixes[s]))
 
     def answer(self, call):
-        place, s, rest = call[0], call[1], call[2:]
-        if not 0 <= s <= 3:
+        place, rest = call[0], call[1:]
+        series = 0 if place in WITHOUT_SERIES else 2 if place in WITH_ANOTHER else 1
+        if [s for s in rest[:series] if s not in (0, 1, 2, 3)]:
             return [-1]
-        return getattr(self, f"call{place}")(s, *rest)
+        return getattr(self, f"call{place}")(*rest)
 
     def call0(self, s):
         self.added[s] = []
@@ -224,3 +307,82 @@ class Model:
             return [-4]
         row = block_bytes(parts[b])
         return [0, len(row)] + row
+
+    def call11(self, count, *row):
+        if not is_row_of_bytes(count, row):
+            return [-1]
+        try:
+            values = read(row)
+        except Wrong as wrong:
+            return [0, wrong.number]
+        return [0, 0, 2 * len(values)] + [number for v in values for number in pair(v)]
+
+    def call12(self, s, count, *row):
+        if not is_row_of_bytes(count, row):
+            return [-1]
+        try:
+            values = read(row)
+        except Wrong:
+            return [-3]
+        if len(self.added[s]) + len(values) > 400:
+            return [-5]
+        self.added[s] += values
+        return [0, len(self.added[s])]
+
+    def call13(self, count, *values):
+        if not 1 <= count <= 16 or not all(map(is_value, values)):
+            return [-1]
+        readings = [v for v in values if v != GAP]
+        if not readings:
+            return [-8]
+        return [0, chosen(readings)] + [len(text) for text in codes(readings)]
+
+    def call14(self, n):
+        if not 1 <= n <= 2 ** 32:
+            return [-1]
+        text = gamma(n)
+        return [0, len(text)] + [int(bit) for bit in text]
+
+    def call15(self, s, t):
+        if s == t:
+            return [-6]
+        self.added[t] = list(self.added[s])
+        self.fixes[t] = list(self.fixes[s])
+        return [0]
+
+    def call16(self, s, t, i):
+        if not is_place(i):
+            return [-1]
+        # None stands where there is no place, so that it differs from a gap too.
+        mine, theirs = [self.now(x) + [None] * (400 - len(self.added[x])) for x in (s, t)]
+        return [0] + ([k for k in range(i, 400) if mine[k] != theirs[k]] + [-1])[:1]
+
+    def call17(self, s, t):
+        found = [(k, b) for k, (a, b) in enumerate(zip(self.now(s), self.now(t))) if a == GAP != b]
+        if len(self.fixes[s]) + len(found) > 60:
+            return [-5]
+        self.fixes[s] += found
+        return [0, len(found)]
+
+    def call18(self, s, n):
+        if not is_place(n):
+            return [-1]
+        if n > len(self.added[s]):
+            return [-4]
+        while len(self.added[s]) > n:
+            self.added[s].pop()
+        self.fixes[s] = [(place, value) for place, value in self.fixes[s] if place < n]
+        return [0]
+
+    def call19(self, s, place):
+        if not is_place(place):
+            return [-1]
+        if place >= len(self.added[s]):
+            return [-4]
+        row = pair(self.added[s][place])
+        for at, value in self.fixes[s]:
+            row += pair(value) if at == place else []
+        return [0, len(row)] + row
+
+    def call20(self):
+        return [0] + [len(kept[s]) for s in range(4) for kept in (self.added, self.fixes)]

@@ -120,6 +120,29 @@ class Language(unittest.TestCase):
             if isinstance(node, ast.arguments):
                 self.assertEqual([node.vararg, node.kwarg, node.kwonlyargs, node.posonlyargs], [None, None, [], []])
 
+    def test_classes_and_errors(self):
+        classes = [node for stem, node in nodes() if isinstance(node, ast.ClassDef)]
+        errors = [node.name for node in classes if [base.id for base in node.bases] == ["Exception"]]
+        for node in classes:
+            self.assertTrue(node.name in errors or node.bases == [], node.name)
+            self.assertIsNotNone(ast.get_docstring(node), node.name)
+            for inner in node.body[1:]:
+                self.assertIsInstance(inner, ast.FunctionDef, node.name)
+        for stem, node in nodes():
+            where = (stem, getattr(node, "lineno", 0))
+            if isinstance(node, ast.Try):
+                self.assertEqual(node.finalbody, [], where)
+            if isinstance(node, ast.ExceptHandler):
+                self.assertIsInstance(node.type, ast.Name, where)
+                self.assertIn(node.type.id, errors, where)
+            if isinstance(node, ast.Raise):
+                self.assertIsInstance(node.exc, ast.Call, where)
+                self.assertIn(node.exc.func.id, errors, where)
+            if isinstance(node, ast.Compare):
+                self.assertEqual([op for op in node.ops if isinstance(op, (ast.Is, ast.IsNot))], [], where)
+            if isinstance(node, ast.BinOp):
+                self.assertNotIsInstance(node.op, ast.Pow, where)
+
     def test_the_top_of_each_file(self):
         for stem, tree in trees().items():
             self.assertIsNotNone(ast.get_docstring(tree), stem)

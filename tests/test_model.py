@@ -4,66 +4,14 @@ import itertools
 import unittest
 
 from tests import model
-from tests.asking import GAP, TOP, add, ask, block, sizes
+from tests.asking import GAP, TOP, add, ask, block, codes, load, sizes, state, unpack
+from tests.maker import Maker
 
-
-class Maker:
-    """Made-up numbers, the same at every run."""
-
-    def __init__(self, seed):
-        self.state = seed
-
-    def below(self, count):
-        self.state = (self.state * 6364136223846793005 + 1442695040888963407) % 2 ** 64
-        return (self.state >> 33) % count
-
-    def among(self, choices):
-        return choices[self.below(len(choices))]
-
-    def value(self):
-        kind = self.below(10)
-        if kind < 2:
-            return GAP
-        if kind < 6:
-            return self.below(5) - 2
-        if kind < 8:
-            return self.below(2001) - 1000
-        if kind < 9:
-            return self.below(2 * TOP + 1) - TOP
-        return self.among((TOP, -TOP, 0, 1, -1))
-
-    def wrong_or(self, number):
-        if self.below(30):
-            return number
-        return self.among((-1, 401, TOP + 1, -TOP - 1, GAP - 1, GAP + 1, 10 ** 18, -10 ** 18, 31, 97, 101))
-
-    def place(self):
-        return self.wrong_or(self.among((self.below(6), self.below(40), self.below(401))))
-
-    def call(self):
-        number = self.among((0, 1, 1, 1, 1, 2, 2, 2, 2, 2, 2, 3, 4, 4, 4, 5, 6, 7, 8, 9, 10))
-        if number == 0 and self.below(4):
-            number = 1
-        series = self.wrong_or(self.among((0, 0, 0, 1, 2, 3)))
-        if number in (0, 9):
-            return [number, series]
-        if number == 1:
-            count = self.among((1, 2, 5, 16, 17, 40, 64, 64, 64 + self.below(2) * self.below(3)))
-            return add(series, [self.wrong_or(self.value()) if count < 4 else self.value() for k in range(count)])
-        if number == 2:
-            return [2, series, self.place(), self.wrong_or(self.value())]
-        if number == 3:
-            return [3, series, self.place()]
-        if number == 4:
-            return [4, series, self.place(), self.wrong_or(self.among((0, 1, 2, self.below(20), self.below(101))))]
-        if number in (5, 6):
-            start = self.place()
-            return [number, series, start, self.wrong_or(start + self.below(30) - 3)]
-        if number == 7:
-            return [7, series, self.place(), self.wrong_or(self.among((self.value(), self.below(7) - 3)))]
-        if number == 8:
-            return [8, series, self.wrong_or(1 + self.below(self.among((6, 96))))]
-        return [10, series, self.wrong_or(self.below(self.among((3, 31))))]
+# Each call's place with each first number that is told for it.
+TOLD = {0: (0, -1), 1: (0, -1, -5), 2: (0, -1, -4, -7, -5), 3: (0, -1, -4), 4: (0, -1, -4, -6), 5: (0, -1, -4),
+        6: (0, -1, -4, -8), 7: (0, -1, -4, -8), 8: (0, -1), 9: (0, -1), 10: (0, -1, -4), 11: (0, -1),
+        12: (0, -1, -3, -5), 13: (0, -1, -8), 14: (0, -1), 15: (0, -1, -6), 16: (0, -1), 17: (0, -1, -5),
+        18: (0, -1, -4), 19: (0, -1, -4), 20: (0,)}
 
 
 class AgainstTheModel(unittest.TestCase):
@@ -73,12 +21,56 @@ class AgainstTheModel(unittest.TestCase):
         other = model.Model()
         told = ask(calls)
         for number, call in enumerate(calls):
-            self.assertEqual(told[number], other.answer(call), (number, calls[:number + 1]))
+            expected = other.answer(call)
+            if told[number] != expected:
+                self.assertEqual(told[number], expected, (number, calls[:number + 1]))
+        return told
 
     def test_made_up_lists(self):
-        for seed in range(200):
+        counts = {(number, first): 0 for number in TOLD for first in TOLD[number]}
+        for seed in range(300):
             maker = Maker(seed)
-            self.same([maker.call() for k in range(100)])
+            calls = maker.nearly_full() if seed % 4 == 0 else []
+            calls += [maker.call() for k in range(99 - len(calls))] + [state()]
+            for call, answer in zip(calls, self.same(calls)):
+                counts[(call[0], answer[0])] += 1
+        self.assertEqual([pair for pair in counts if counts[pair] < 5], [], counts)
+
+    def rows_are_read(self, rows):
+        """Many rows of bytes, a hundred in a list; answers how many of them each first number behind the 0 has."""
+        counts = [0] * 5
+        for start in range(0, len(rows), 100):
+            for answer in self.same([unpack(row) for row in rows[start:start + 100]]):
+                counts[answer[1]] += 1
+        return counts
+
+    def test_all_rows_of_few_bytes(self):
+        self.assertEqual(self.rows_are_read([[]]), [0, 1, 0, 0, 0])
+        # One gap, two, three, and the reading 0 have one byte each.
+        self.assertEqual(self.rows_are_read([[byte] for byte in range(256)]), [4, 248, 0, 4, 0])
+        counts = self.rows_are_read([[first, second] for first in range(256) for second in range(256)])
+        self.assertGreater(min(counts), 0, counts)
+
+    def test_made_up_rows_of_bytes(self):
+        maker = Maker(7)
+        rows = [[maker.below(256) for k in range(maker.below(20))] for k in range(3000)]
+        rows += [[maker.below(256)] + [maker.among((0, 0, 255, 1 << maker.below(8))) for k in range(maker.below(30))]
+                 for k in range(3000)]
+        counts = self.rows_are_read(rows)
+        self.assertGreater(min(counts), 20, counts)
+
+    def test_blocks_in_each_code(self):
+        maker = Maker(8)
+        rows = [maker.forced([maker.value() for n in range(1 + maker.below(16))]) for k in range(3000)]
+        counts = self.rows_are_read(rows)
+        self.assertGreater(min(counts[0], counts[4]), 500, counts)
+        self.assertEqual(counts[1:4], [0, 0, 0])
+
+    def test_blocks_with_one_bit_changed(self):
+        for values in ([5], [7] * 16, [GAP, 3, 3, GAP, -1000], [0] * 8 + [9] * 8, [-TOP, TOP], list(range(0, 160, 10))):
+            row = model.block_bytes(values)
+            rows = [row[:at] + [row[at] ^ 1 << bit] + row[at + 1:] for at in range(len(row)) for bit in range(8)]
+            self.rows_are_read(rows)
 
     def blocks_are_packed(self, blocks):
         """Many blocks, each in turn in its own list; four series hold four at once."""
@@ -86,7 +78,11 @@ class AgainstTheModel(unittest.TestCase):
             part = blocks[start:start + 4]
             calls = [add(s, part[s]) for s in range(len(part))]
             calls += [block(s, 0) for s in range(len(part))] + [sizes(s) for s in range(len(part))]
-            self.same(calls)
+            calls += [codes(values) for values in part]
+            rows = [model.block_bytes(values) for values in part]
+            calls += [unpack(row) for row in rows] + [load(s, rows[s]) for s in range(len(part))]
+            told = self.same(calls)
+            self.assertEqual([answer[:2] for answer in told[4 * len(part):5 * len(part)]], [[0, 0]] * len(part))
 
     def test_all_short_blocks_of_few_values(self):
         values = (0, 1, -1, 2, -3, 40, -1000, GAP)
